@@ -1,0 +1,96 @@
+package cordon
+
+import (
+	"slices"
+
+	"cordon/api"
+	"cordon/replica"
+	"cordon/wire"
+)
+
+func newCluster(replicas int) *Cluster {
+	c := &Cluster{}
+	all := firstNumbers(replicas)
+	for _, number := range all {
+		r := replica.New(number, all)
+		c.replicas = append(c.replicas, r)
+		c.add(number, r)
+	}
+	for i := range api.Acceptors {
+		a := &acceptor{members: slices.Clone(all)}
+		c.acceptors = append(c.acceptors, a)
+		c.add(api.Acceptor+i, a)
+	}
+	for i := range api.Masters {
+		c.add(api.Master+i, still{})
+	}
+	return c
+}
+
+// firstNumbers is the n numbers from 0 on.
+func firstNumbers(n int) []int {
+	list := make([]int, n)
+	for i := range list {
+		list[i] = i
+	}
+	return list
+}
+
+func (c *Cluster) add(number int, n node) {
+	c.stations = append(c.stations, station{number: number, state: up, node: n})
+}
+
+// find answers nil, if there is no such node.
+func (c *Cluster) find(number int) *station {
+	for i := range c.stations {
+		if c.stations[i].number == number {
+			return &c.stations[i]
+		}
+	}
+	return nil
+}
+
+// findIn finds a node for a step that only a node in this state can take.
+func (c *Cluster) findIn(state, number int) (*station, api.Errno) {
+	s := c.find(number)
+	switch {
+	case s == nil:
+		return nil, api.ErrNode
+	case s.state != state:
+		return nil, api.ErrState
+	}
+	return s, api.OK
+}
+
+func (c *Cluster) isUp(number int) bool {
+	_, e := c.findIn(up, number)
+	return e == api.OK
+}
+
+// pick finds a node in the list of its kind, of which the first one has the number first.
+func pick[T any](list []T, first, number int) (T, bool) {
+	if number < first || number >= first+len(list) {
+		var none T
+		return none, false
+	}
+	return list[number-first], true
+}
+
+// arrive lets a frame that has left the bag reach whom it is to.
+func (c *Cluster) arrive(frame string) {
+	m, e := wire.Decode(frame)
+	if e != api.OK {
+		return
+	}
+	if s, e := c.findIn(up, m.To); e == api.OK {
+		c.bag.send(s.node.Take(m)...)
+		return
+	}
+	if m.Kind == api.Reply && isClient(m.To) {
+		c.told = append(c.told, api.Answer{Client: m.To - api.Client, Seq: m.Pos, Value: m.Value})
+	}
+}
+
+func isClient(number int) bool {
+	return number >= api.Client && number <= api.Client+api.MaxClient
+}
