@@ -1,39 +1,33 @@
 package cordon
 
 import (
-	"slices"
-
+	"cordon/acceptor"
 	"cordon/api"
+	"cordon/master"
+	"cordon/members"
 	"cordon/replica"
 	"cordon/wire"
 )
 
 func newCluster(replicas int) *Cluster {
 	c := &Cluster{}
-	all := firstNumbers(replicas)
+	all := members.Numbers(0, replicas)
 	for _, number := range all {
 		r := replica.New(number, all)
 		c.replicas = append(c.replicas, r)
 		c.add(number, r)
 	}
-	for i := range api.Acceptors {
-		a := &acceptor{members: slices.Clone(all)}
+	for _, number := range members.Numbers(api.Acceptor, api.Acceptors) {
+		a := acceptor.New(number, all)
 		c.acceptors = append(c.acceptors, a)
-		c.add(api.Acceptor+i, a)
+		c.add(number, a)
 	}
-	for i := range api.Masters {
-		c.add(api.Master+i, still{})
+	for _, number := range members.Numbers(api.Master, api.Masters) {
+		m := master.New(number)
+		c.masters = append(c.masters, m)
+		c.add(number, m)
 	}
 	return c
-}
-
-// firstNumbers is the n numbers from 0 on.
-func firstNumbers(n int) []int {
-	list := make([]int, n)
-	for i := range list {
-		list[i] = i
-	}
-	return list
 }
 
 func (c *Cluster) add(number int, n node) {
@@ -74,6 +68,10 @@ func pick[T any](list []T, first, number int) (T, bool) {
 		return none, false
 	}
 	return list[number-first], true
+}
+
+func (c *Cluster) areMembers(list []int) bool {
+	return members.AreMembers(list, len(c.replicas))
 }
 
 // arrive lets a frame that has left the bag reach whom it is to.

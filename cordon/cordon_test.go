@@ -25,6 +25,7 @@ func TestNoCallPanics(t *testing.T) {
 			c.Ask(n, api.Entry{Kind: api.Put})
 			c.Change(n, []int{n, n})
 			c.Change(n, nil)
+			c.Change(n, []int{0})
 			c.Tick(n)
 			c.Double(n)
 			c.Spoil(n, []int{n, n, n, n})

@@ -19,7 +19,11 @@ func scribble[T any](list []T, mark T) {
 func busy(t *testing.T) *Cluster {
 	t.Helper()
 	c := open(t, 3)
-	for i := range 5 {
+	for i := range 3 {
+		ask(t, c, 0, put(0, i, i, i))
+	}
+	change(t, c, 200, 0, 2, 1)
+	for i := 3; i < 5; i++ {
 		ask(t, c, 0, put(0, i, i, i))
 	}
 	for i := range 3 {
@@ -119,6 +123,9 @@ func TestTwoClusters(t *testing.T) {
 	for i := range 10 {
 		ask(t, a, i%3, put(0, i, 0, i))
 	}
+	change(t, a, 200, 2, 0)
+	a.Change(201, []int{1})
+	deliver(t, a, 9)
 	a.Ask(0, put(1, 0, 0, 0))
 	for _, n := range nodesOf(3) {
 		a.Crash(n)
@@ -128,6 +135,10 @@ func TestTwoClusters(t *testing.T) {
 	}
 	busyA := look(a)
 	ask(t, b, 0, put(2, 2, 2, 2))
+	b.Change(200, []int{1, 2})
+	checkBag(t, "P2: the masters of another cluster", b, toAll(api.Msg{Kind: api.Read, Ballot: 2}, 200, 100, 101, 102)...)
+	drain(t, b)
+	checkRegisters(t, "P2: the acceptors of another cluster", b, 1, 1, 2)
 	b.Crash(0)
 	if got := look(a); !same(got, busyA) {
 		t.Errorf("P2: one cluster changed another: %+v", got)

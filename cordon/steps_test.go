@@ -263,13 +263,26 @@ func TestCommitBehindCrash(t *testing.T) {
 	checkAnswers(t, "P12: and again", c, api.Answer{Client: 2, Seq: 3, Value: -1}, api.Answer{Client: 2, Seq: 3, Value: -1})
 }
 
+// isNamed tells of the messages of TestFramesOfAllSorts whether who it is to takes it in.
+func isNamed(kind, to int) bool {
+	switch kind {
+	case api.Reply:
+		return to >= 300 && to <= 303
+	case api.Seal, api.Install:
+		return to >= 0 && to < 3
+	case api.Read, api.Prepare, api.Accept, api.Write:
+		return to >= 100 && to < 103
+	}
+	return false
+}
+
 // TestFramesOfAllSorts: frames that no node sends are lost too, wherever they go.
 func TestFramesOfAllSorts(t *testing.T) {
 	c := open(t, 3)
 	before := look(c)
 	for _, to := range append(noNodes(3), nodesOf(3)...) {
 		for kind := 1; kind <= 16; kind++ {
-			if (kind == api.Reply && to >= 300 && to <= 303) || (kind == api.Install || kind == api.Seal) && to < 3 {
+			if isNamed(kind, to) {
 				continue
 			}
 			c.bag.send(api.Msg{Kind: kind, From: 102, To: to, Epoch: 1, Ballot: 2, Pos: 0, Members: []int{2}})
@@ -287,26 +300,4 @@ func TestFramesOfAllSorts(t *testing.T) {
 	}
 	drain(t, c)
 	checkAnswers(t, "P7: Reply to each client", c, api.Answer{Client: 0, Seq: 9, Value: 8}, api.Answer{Client: 1, Seq: 9, Value: 8}, api.Answer{Client: 2, Seq: 9, Value: 8}, api.Answer{Client: 3, Seq: 9, Value: 8})
-}
-
-// TestSealAndInstall: the parts of P12 that masters ask for, by frames as a master sends them.
-func TestSealAndInstall(t *testing.T) {
-	c := open(t, 3)
-	e := put(0, 0, 5, 7)
-	ask(t, c, 0, e)
-	c.bag.send(api.Msg{Kind: api.Seal, From: 200, To: 1, Epoch: 1, Ballot: 2})
-	deliver(t, c, 1)
-	checkBag(t, "P12: Seal", c, api.Msg{Kind: api.Sealed, From: 1, To: 200, Epoch: 1, Ballot: 2, Log: []api.Entry{e}})
-	if s, _ := c.Status(1); s.Seal != 1 || s.Epoch != 0 {
-		t.Errorf("P10: sealed: %+v", s)
-	}
-	drain(t, c)
-	c.bag.send(api.Msg{Kind: api.Install, From: 200, To: 1, Epoch: 1, Members: []int{1, 0}, Log: []api.Entry{e}})
-	deliver(t, c, 1)
-	checkBag(t, "P12: Install", c, api.Msg{Kind: api.Installed, From: 1, To: 200, Epoch: 1})
-	if s, _ := c.Status(1); s.Seal != 1 || s.Epoch != 1 || s.Commit != 1 || !slices.Equal(s.Members, []int{1, 0}) {
-		t.Errorf("P10: installed: %+v", s)
-	}
-	c.Crash(1)
-	checkReplica(t, "P8: the base is that of the Install", c, 1, 1, e)
 }

@@ -1,10 +1,32 @@
-// Package members: replicas in the order of their chain: see DOC.md.
+// Package members: replicas in the order of their chain, and the numbers of nodes: see DOC.md.
 package members
 
 import (
 	"iter"
 	"slices"
 )
+
+// Numbers is so many numbers from the first one on: those of all nodes of a kind.
+func Numbers(first, count int) []int {
+	list := make([]int, count)
+	for i := range list {
+		list[i] = first + i
+	}
+	return list
+}
+
+// AreMembers tells whether a list could be members, where there are so many replicas.
+func AreMembers(list []int, replicas int) bool {
+	if len(list) < 1 || len(list) > replicas {
+		return false
+	}
+	for i, one := range list {
+		if one < 0 || one >= replicas || slices.Contains(list[:i], one) {
+			return false
+		}
+	}
+	return true
+}
 
 // Behind ranges over those that stand behind one of the members, the nearest
 // first; over nobody, if that one is none of them.

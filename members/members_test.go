@@ -1,9 +1,35 @@
 package members
 
 import (
+	"math"
 	"slices"
 	"testing"
 )
+
+func TestNumbers(t *testing.T) {
+	if got := Numbers(0, 5); !slices.Equal(got, []int{0, 1, 2, 3, 4}) {
+		t.Errorf("five from 0 on: %v", got)
+	}
+	if got := Numbers(100, 3); !slices.Equal(got, []int{100, 101, 102}) {
+		t.Errorf("three from 100 on: %v", got)
+	}
+}
+
+func TestAreMembers(t *testing.T) {
+	for _, list := range [][]int{{0}, {2}, {2, 0}, {1, 2, 0}, {0, 1, 2}} {
+		if !AreMembers(list, 3) {
+			t.Errorf("P6: of 3 replicas, %v are members", list)
+		}
+	}
+	for _, list := range [][]int{nil, {}, {3}, {-1}, {0, 3}, {0, -1}, {0, 0}, {0, 1, 0}, {1, 2, 2}, {0, 1, 2, 3}, {0, 1, 2, 0}, {math.MinInt}, {math.MaxInt}, {100}, {0, 1, 2, 3, 4, 5}} {
+		if AreMembers(list, 3) {
+			t.Errorf("P6: of 3 replicas, %v are no members", list)
+		}
+	}
+	if !AreMembers([]int{4, 2, 3, 1, 0}, 5) || !AreMembers([]int{0}, 1) || AreMembers([]int{1}, 1) || AreMembers([]int{0, 0}, 1) {
+		t.Error("P6: members of 5 replicas and of one")
+	}
+}
 
 func TestBehindAndAhead(t *testing.T) {
 	for _, c := range []struct {
