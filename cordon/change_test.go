@@ -230,9 +230,7 @@ func TestChangeWhileBusy(t *testing.T) {
 		dropAll(c)
 		check(t, "P6: Change", c.Change(200, []int{2}), api.OK)
 		checkBag(t, "P14: it reads", c, toAll(api.Msg{Kind: api.Read, Ballot: 4}, 200, 100, 101, 102)...)
-		for _, frame := range late {
-			c.bag.put(frame)
-		}
+		lay(c, late...)
 		drain(t, c)
 		checkIdle(t, "P14: behind all", c, 200)
 		change(t, c, 200, 1, 2)
@@ -479,7 +477,7 @@ func TestSealEpochs(t *testing.T) {
 	answer := api.Msg{Kind: api.Sealed, From: 0, To: 200, Epoch: 1, Ballot: 2, Log: []api.Entry{put(0, 0, 1, 1)}}
 	for epoch := 1; epoch < 4; epoch++ {
 		before := look(c)
-		c.bag.put(late)
+		lay(c, late)
 		deliver(t, c, 1)
 		checkBag(t, "P12: who is further on answers", c, answer)
 		drain(t, c)
@@ -508,7 +506,7 @@ func TestInstallEpochs(t *testing.T) {
 	ask(t, c, 1, put(0, 1, 1, 2))
 	for range 2 {
 		before := look(c)
-		c.bag.put(late)
+		lay(c, late)
 		deliver(t, c, 1)
 		checkBag(t, "P12: who has it already answers", c, api.Msg{Kind: api.Installed, From: 0, To: 200, Epoch: 1})
 		drain(t, c)

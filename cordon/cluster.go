@@ -1,6 +1,8 @@
 package cordon
 
 import (
+	"sync"
+
 	"cordon/acceptor"
 	"cordon/api"
 	"cordon/master"
@@ -75,15 +77,19 @@ func (c *Cluster) areMembers(list []int) bool {
 }
 
 // arrive lets a frame that has left the bag reach whom it is to.
-func (c *Cluster) arrive(frame string) {
-	m, e := wire.Decode(frame)
+func (c *Cluster) arrive(f frame) {
+	m, e := wire.Decode(f.bytes)
 	if e != api.OK {
 		return
 	}
 	if s, e := c.findIn(up, m.To); e == api.OK {
 		c.bag.send(s.node.Take(m)...)
-		return
 	}
+	c.tell(m)
+}
+
+// tell lets a client hear what is a Reply to it.
+func (c *Cluster) tell(m api.Msg) {
 	if m.Kind == api.Reply && isClient(m.To) {
 		c.told = append(c.told, api.Answer{Client: m.To - api.Client, Seq: m.Pos, Value: m.Value})
 	}
@@ -91,4 +97,21 @@ func (c *Cluster) arrive(frame string) {
 
 func isClient(number int) bool {
 	return number >= api.Client && number <= api.Client+api.MaxClient
+}
+
+// playAll lets all nodes play at once, each in a goroutine that touches its
+// own node and its own bag alone: however these run, what each one sends is
+// the same, and the order of the bags is that of the nodes.
+func (c *Cluster) playAll(arrived []api.Msg) []bag {
+	sent := make([]bag, len(c.stations))
+	var playing sync.WaitGroup
+	playing.Add(len(c.stations))
+	for i := range c.stations {
+		go func() {
+			defer playing.Done()
+			c.stations[i].play(arrived, &sent[i])
+		}()
+	}
+	playing.Wait()
+	return sent
 }

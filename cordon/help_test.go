@@ -142,6 +142,13 @@ func checkAnswers(t *testing.T, what string, c *Cluster, want ...api.Answer) {
 	}
 }
 
+// lay puts bytes on their way that nobody may have sent.
+func lay(c *Cluster, bytes ...string) {
+	for _, s := range bytes {
+		c.bag.put(frame{bytes: s})
+	}
+}
+
 // deliver lets so many of the first frames arrive.
 func deliver(t *testing.T, c *Cluster, n int) {
 	t.Helper()

@@ -23,3 +23,15 @@ type station struct {
 	state  int
 	node   node
 }
+
+// play is a node's part of a Round: it takes in what is for it, and ticks.
+// Whatever is sent goes into a bag of its own, for other nodes play at the same time.
+func (s *station) play(arrived []api.Msg, sent *bag) {
+	if s.state != up {
+		return
+	}
+	for m := range framesFor(s.number, arrived) {
+		sent.send(s.node.Take(m)...)
+	}
+	sent.send(s.node.Tick()...)
+}

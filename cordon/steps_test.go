@@ -289,8 +289,8 @@ func TestFramesOfAllSorts(t *testing.T) {
 		}
 		drain(t, c)
 	}
-	c.bag.put("no frame")
-	c.bag.put("")
+	lay(c, "no frame")
+	lay(c, "")
 	drain(t, c)
 	if after := look(c); !same(before, after) {
 		t.Errorf("P7: frames that are lost changed %+v into %+v", before, after)
